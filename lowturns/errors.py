@@ -1,13 +1,6 @@
 """The errors of the program. Each has the attributes code and details beside those of its own."""
 
-
-def _copied(value):
-    """The value itself; a list in it, at any depth, is a new one."""
-    if isinstance(value, list):
-        return [_copied(item) for item in value]
-    if isinstance(value, tuple):
-        return tuple([_copied(item) for item in value])
-    return value
+from lowturns.copies import copied
 
 
 class TurnError(ValueError):
@@ -23,9 +16,9 @@ class InvalidPrime(TurnError):
 
     def __init__(self, given):
         super().__init__(f"not a prime: {given!r}")
-        self.given = _copied(given)
+        self.given = copied(given)
         self.code = self.__class__.__name__
-        self.details = (_copied(given),)
+        self.details = (copied(given),)
 
 
 class InvalidFigure(TurnError):
@@ -33,9 +26,9 @@ class InvalidFigure(TurnError):
 
     def __init__(self, given):
         super().__init__(f"not a figure: {given!r}")
-        self.given = _copied(given)
+        self.given = copied(given)
         self.code = self.__class__.__name__
-        self.details = (_copied(given),)
+        self.details = (copied(given),)
 
 
 class InvalidSetting(TurnError):
@@ -43,9 +36,9 @@ class InvalidSetting(TurnError):
 
     def __init__(self, given):
         super().__init__(f"not a setting: {given!r}")
-        self.given = _copied(given)
+        self.given = copied(given)
         self.code = self.__class__.__name__
-        self.details = (_copied(given),)
+        self.details = (copied(given),)
 
 
 class InvalidCount(TurnError):
@@ -53,9 +46,9 @@ class InvalidCount(TurnError):
 
     def __init__(self, given):
         super().__init__(f"not a number within the bounds: {given!r}")
-        self.given = _copied(given)
+        self.given = copied(given)
         self.code = self.__class__.__name__
-        self.details = (_copied(given),)
+        self.details = (copied(given),)
 
 
 class InvalidState(TurnError):
@@ -63,9 +56,9 @@ class InvalidState(TurnError):
 
     def __init__(self, at):
         super().__init__(f"not a state at index {at!r}")
-        self.at = _copied(at)
+        self.at = copied(at)
         self.code = self.__class__.__name__
-        self.details = (_copied(at),)
+        self.details = (copied(at),)
 
 
 class InvalidStart(TurnError):
@@ -73,9 +66,9 @@ class InvalidStart(TurnError):
 
     def __init__(self, given):
         super().__init__(f"not a start: {given!r}")
-        self.given = _copied(given)
+        self.given = copied(given)
         self.code = self.__class__.__name__
-        self.details = (_copied(given),)
+        self.details = (copied(given),)
 
 
 class InvalidText(TurnError):
@@ -92,9 +85,9 @@ class InvalidLine(TurnError):
 
     def __init__(self, line):
         super().__init__(f"not a line of a program at index {line!r}")
-        self.line = _copied(line)
+        self.line = copied(line)
         self.code = self.__class__.__name__
-        self.details = (_copied(line),)
+        self.details = (copied(line),)
 
 
 class NotATurn(TurnError):
@@ -102,9 +95,9 @@ class NotATurn(TurnError):
 
     def __init__(self, given):
         super().__init__(f"not a factor with the rest 1: {given!r}")
-        self.given = _copied(given)
+        self.given = copied(given)
         self.code = self.__class__.__name__
-        self.details = (_copied(given),)
+        self.details = (copied(given),)
 
 
 class LooksUp(TurnError):
@@ -112,9 +105,9 @@ class LooksUp(TurnError):
 
     def __init__(self, given):
         super().__init__(f"not a look at a dial below: {given!r}")
-        self.given = _copied(given)
+        self.given = copied(given)
         self.code = self.__class__.__name__
-        self.details = (_copied(given),)
+        self.details = (copied(given),)
 
 
 class InvalidCounts(TurnError):
@@ -131,9 +124,9 @@ class InvalidTable(TurnError):
 
     def __init__(self, dial):
         super().__init__(f"not a table for dial {dial!r}")
-        self.dial = _copied(dial)
+        self.dial = copied(dial)
         self.code = self.__class__.__name__
-        self.details = (_copied(dial),)
+        self.details = (copied(dial),)
 
 
 class PrimesDiffer(TurnError):
@@ -150,9 +143,9 @@ class TooMany(TurnError):
 
     def __init__(self, most):
         super().__init__(f"more than {most!r}")
-        self.most = _copied(most)
+        self.most = copied(most)
         self.code = self.__class__.__name__
-        self.details = (_copied(most),)
+        self.details = (copied(most),)
 
 
 class NotSingle(TurnError):
@@ -169,9 +162,9 @@ class NoRelabelling(TurnError):
 
     def __init__(self, at):
         super().__init__(f"no relabelling for {at!r} dials")
-        self.at = _copied(at)
+        self.at = copied(at)
         self.code = self.__class__.__name__
-        self.details = (_copied(at),)
+        self.details = (copied(at),)
 
 
 class InvalidName(TurnError):
@@ -179,9 +172,9 @@ class InvalidName(TurnError):
 
     def __init__(self, name):
         super().__init__(f"not a name: {name!r}")
-        self.name = _copied(name)
+        self.name = copied(name)
         self.code = self.__class__.__name__
-        self.details = (_copied(name),)
+        self.details = (copied(name),)
 
 
 class DuplicateName(TurnError):
@@ -189,9 +182,9 @@ class DuplicateName(TurnError):
 
     def __init__(self, name):
         super().__init__(f"the name is in use: {name!r}")
-        self.name = _copied(name)
+        self.name = copied(name)
         self.code = self.__class__.__name__
-        self.details = (_copied(name),)
+        self.details = (copied(name),)
 
 
 class WrongKind(TurnError):
@@ -199,9 +192,9 @@ class WrongKind(TurnError):
 
     def __init__(self, name):
         super().__init__(f"an entry of the wrong kind: {name!r}")
-        self.name = _copied(name)
+        self.name = copied(name)
         self.code = self.__class__.__name__
-        self.details = (_copied(name),)
+        self.details = (copied(name),)
 
 
 class Full(TurnError):
@@ -209,9 +202,9 @@ class Full(TurnError):
 
     def __init__(self, most):
         super().__init__(f"no room for more than {most!r} names")
-        self.most = _copied(most)
+        self.most = copied(most)
         self.code = self.__class__.__name__
-        self.details = (_copied(most),)
+        self.details = (copied(most),)
 
 
 class InUse(TurnError):
@@ -219,9 +212,9 @@ class InUse(TurnError):
 
     def __init__(self, user):
         super().__init__(f"the name stands in the word {user!r}")
-        self.user = _copied(user)
+        self.user = copied(user)
         self.code = self.__class__.__name__
-        self.details = (_copied(user),)
+        self.details = (copied(user),)
 
 
 class InvalidCommand(TurnError):
@@ -229,9 +222,9 @@ class InvalidCommand(TurnError):
 
     def __init__(self, word):
         super().__init__(f"not a command: {word!r}")
-        self.word = _copied(word)
+        self.word = copied(word)
         self.code = self.__class__.__name__
-        self.details = (_copied(word),)
+        self.details = (copied(word),)
 
 
 class InvalidLimit(TurnError):
@@ -239,9 +232,9 @@ class InvalidLimit(TurnError):
 
     def __init__(self, given):
         super().__init__(f"not a limit of this book: {given!r}")
-        self.given = _copied(given)
+        self.given = copied(given)
         self.code = self.__class__.__name__
-        self.details = (_copied(given),)
+        self.details = (copied(given),)
 
 
 class InvalidPage(TurnError):
@@ -249,9 +242,9 @@ class InvalidPage(TurnError):
 
     def __init__(self, line):
         super().__init__(f"not a page, from line {line!r} on")
-        self.line = _copied(line)
+        self.line = copied(line)
         self.code = self.__class__.__name__
-        self.details = (_copied(line),)
+        self.details = (copied(line),)
 
 
 class UnknownState(Missing):
@@ -259,9 +252,9 @@ class UnknownState(Missing):
 
     def __init__(self, given):
         super().__init__(f"no such state: {given!r}")
-        self.given = _copied(given)
+        self.given = copied(given)
         self.code = self.__class__.__name__
-        self.details = (_copied(given),)
+        self.details = (copied(given),)
 
 
 class UnknownName(Missing):
@@ -269,9 +262,9 @@ class UnknownName(Missing):
 
     def __init__(self, name):
         super().__init__(f"no such name: {name!r}")
-        self.name = _copied(name)
+        self.name = copied(name)
         self.code = self.__class__.__name__
-        self.details = (_copied(name),)
+        self.details = (copied(name),)
 
 
 class NothingLeft(IndexError):

@@ -3,10 +3,10 @@
 from lowturns.errors import InvalidFigure, InvalidPrime, InvalidStart, InvalidState, InvalidText
 from lowturns.errors import PrimesDiffer, TooMany, UnknownState
 from lowturns.figures import check_count, check_prime, check_setting, is_below
+from lowturns.numerals import is_numeral
 
 MOST_TIMES = 20
 MOST_DIGITS = 3
-DIGITS = "0123456789"
 
 
 def _is_state(prime, value, many):
@@ -74,10 +74,7 @@ def _state_text(state):
 
 def _read_number(word):
     """The number that a word of a text stands for."""
-    # The length is looked at first, for int refuses to read thousands of digits.
-    if not 1 <= len(word) <= MOST_DIGITS or not all([sign in DIGITS for sign in word]):
-        raise InvalidText()
-    if word != "0" and word.startswith("0"):
+    if not is_numeral(word, MOST_DIGITS):
         raise InvalidText()
     return int(word)
 

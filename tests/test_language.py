@@ -17,6 +17,8 @@ LIBRARY = {"heapq": ["heappush", "heappop", "heapify", "heapreplace", "heappushp
 BARRED = """register mro elements open input law version_info with_traceback add_note attrgetter breakpoint compile
     copyright credits delattr dir eval exec exit gc getattr globals hasattr help id importlib license locals
     methodcaller os quit setattr type vars sys typing enum Enum Flag Generic Protocol ABC namedtuple dataclass""".split()
+# Examples that run in the same process leave their last value as the builtin _.
+BUILTINS = [word for word in dir(builtins) if word != "_"]
 NO_NODES = (ast.Global, ast.AsyncFunctionDef, ast.Await, ast.Import, ast.Div, ast.MatMult, ast.AsyncFor, ast.AsyncWith)
 
 
@@ -100,14 +102,14 @@ class Language(unittest.TestCase):
     def test_names(self):
         for name, tree in trees().items():
             for word in named(tree):
-                self.assertNotIn(word, dir(builtins), name)
+                self.assertNotIn(word, BUILTINS, name)
                 self.assertNotIn(word, BARRED, name)
                 self.assertFalse(word.startswith("__"), (name, word))
 
     def test_builtins(self):
         for name, tree in trees().items():
             for node in ast.walk(tree):
-                if isinstance(node, ast.Name) and node.id in dir(builtins):
+                if isinstance(node, ast.Name) and node.id in BUILTINS:
                     self.assertIn(node.id, ALLOWED, (name, node.lineno))
 
     def test_no_name_is_bound_twice(self):
