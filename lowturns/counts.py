@@ -47,3 +47,18 @@ def total(turner, dials):
     for _ in range(dials):
         counts = next_counts(turner, counts)
     return turn_total(turner, counts)
+
+
+def totals_below(turner, dials):
+    """The list of the totals at all numbers of dials below this one."""
+    totals = []
+    counts = first_counts(turner)
+    for _ in range(dials):
+        totals.append(turn_total(turner, counts))
+        counts = next_counts(turner, counts)
+    return totals
+
+
+def is_single_at(turner, dials):
+    """Whether there is only one round of settings of so many dials."""
+    return 0 not in totals_below(turner, dials)

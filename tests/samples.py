@@ -1,5 +1,7 @@
 """What several tests need: wrong values, turners to try, and a plain walk along a setting."""
 
+from lowturns.counts import first_counts, next_counts
+from lowturns.programs import affine, compiled
 from lowturns.turners import Turner
 
 PRIMES = (2, 3, 5, 7)
@@ -84,6 +86,79 @@ def turners(prime):
         for seed in range(3):
             found.append(Turner(prime, mixed(prime, many, seed), start=(seed * 5) % many))
     return found
+
+
+def lengths(turner, dials):
+    """The lengths of all rounds of settings of so many dials, straight from [10]."""
+    behind = {setting: walk(turner.states(), turner.start, setting, turner.prime)[0]
+              for setting in all_settings(turner.prime, dials)}
+    found = []
+    while behind:
+        first = setting = next(iter(behind))
+        length = 0
+        while length == 0 or setting != first:
+            setting = behind.pop(setting)
+            length += 1
+        found.append(length)
+    return found
+
+
+def round_from(turner, setting):
+    """The round of a setting."""
+    found = [setting]
+    while (behind := turner(found[-1])) != setting:
+        found.append(behind)
+    return found
+
+
+def trail(turner, many):
+    """The first so many counts."""
+    found = [first_counts(turner)]
+    while len(found) < many:
+        found.append(next_counts(turner, found[-1]))
+    return found
+
+
+def late(prime, zeros):
+    """A turner with the total 1 at the first so many numbers of dials, and 0 from there on."""
+    # At the figure 0 alone it goes on, so that one count goes along the states.
+    rows = [(1, (at + 1,) + (zeros + 1,) * (prime - 1)) for at in range(zeros)]
+    return Turner(prime, rows + [(0, (zeros,) * prime), (0, (zeros + 1,) * prime)])
+
+
+def crossing(prime, ahead, one, other, meets=None):
+    """A turner with a row of states ahead of two rings without a common factor, one count in each.
+
+    It has ahead + one * other counts until some come again. All totals are 1; with meets, for the prime 3, they are
+    1 or 2, and 0 where the rings are at these two places.
+    """
+    rest = ahead + one + other
+    lost = (rest,) * (prime - 1)
+    rows = [(1, (at + 1,) + lost) for at in range(ahead - 1)] + [(1, (ahead, ahead + one) + lost[1:])]
+    rows += [(1, (ahead + (at + 1) % one,) + lost) for at in range(one)]
+    rows += [(0, (ahead + one + (at + 1) % other,) + lost) for at in range(other)]
+    if meets is not None:
+        rows[ahead + meets[0]] = (2, rows[ahead + meets[0]][1])
+        rows[ahead + one + meets[1]] = (1, rows[ahead + one + meets[1]][1])
+    return Turner(prime, rows + [(0, (rest,) * prime)])
+
+
+def tried(prime):
+    """Turners, some of which are single."""
+    singles = [counter(prime), counter(prime).inverse(), affine(prime, 1 + prime, 1), affine(prime, 1 - prime, -1),
+               affine(prime, 1, prime - 1), late(prime, 1), late(prime, 2), late(prime, 3), compiled(prime, "mix -1"),
+               compiled(prime, "mix -1; stir 1 1"), compiled(prime, "add 1; stir 1 2; mix 5")]
+    return turners(prime) + singles
+
+
+def row(prime, turns, back):
+    """A turner with these totals at 0, 1, 2 .. dials, from the last one on again from the index back, which is not 0.
+
+    Its counts come again at the same place: there are as many as turns.
+    """
+    many = len(turns)
+    states = [(turn, (at + 1 if at + 1 < many else back,) + (many,) * (prime - 1)) for at, turn in enumerate(turns)]
+    return Turner(prime, states + [(0, (many,) * prime)])
 
 
 def error_of(case, call, *args, **named):
