@@ -228,6 +228,11 @@ def _check_pair(one, other, pair, at):
         raise NoRelabelling(at + 1)
 
 
+def _key(pair):
+    """A pair of counts as it may be a key."""
+    return (tuple(pair[0]), tuple(pair[1]))
+
+
 def match(one, other, *, most=2000):
     """The Match of two turners, from at most so many pairs."""
     if one.prime != other.prime:
@@ -235,13 +240,11 @@ def match(one, other, *, most=2000):
     check_count(most, 1, MOST_COUNTS)
     pairs, places = [], {}
     pair = (first_counts(one), first_counts(other))
-    key = (tuple(pair[0]), tuple(pair[1]))
-    while key not in places:
+    while _key(pair) not in places:
         if len(pairs) == most:
             raise TooMany(most)
         _check_pair(one, other, pair, len(pairs))
-        places[key] = len(pairs)
+        places[_key(pair)] = len(pairs)
         pairs.append(pair)
         pair = (next_counts(one, pair[0]), next_counts(other, pair[1]))
-        key = (tuple(pair[0]), tuple(pair[1]))
-    return Match(one, other, pairs, places[key])
+    return Match(one, other, pairs, places[_key(pair)])

@@ -1,7 +1,9 @@
 """[17], [18] and what lowturns/books.py tells of entries, steps and limits."""
 
 import unittest
+from unittest import mock
 
+from lowturns import books
 from lowturns.books import Book
 from lowturns.turners import Turner
 from tests.samples import FAR, ODD, PRIMES, few_settings, mixed, same, told
@@ -278,6 +280,19 @@ class Steps(unittest.TestCase):
         # The step that was taken back can still be made again.
         book.redo()
         self.assertEqual(len(book), 7)
+
+    def test_busy_while_commands_are_applied(self):
+        book, seen, done = Book(2), [], books.done
+
+        def watched(*values):
+            seen.append(book.busy)
+            return done(*values)
+
+        with mock.patch.object(books, "done", watched):
+            book.apply(("turner", "a", A), ("word", "w", "a"))
+            self.assertIs(book.busy, False)
+            self.assertEqual(told(self, book.apply, ("drop", "w"), ("drop", "zz"), ("drop", "a")), ("UnknownName", "zz"))
+        self.assertEqual((seen, book.busy), ([True] * 4, False))
 
     def test_the_first_error_counts(self):
         book = shelf()

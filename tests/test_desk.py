@@ -258,6 +258,10 @@ class Desks(Case):
             text = text_of_states(prime, ring(prime, 240, 101), 239)
             self.check(desk, ("turner a " + text, "ok"), ("show a", text), ("turner b " + text.replace(" 239:", " 240:"),
                                                                             "error InvalidText"))
+            figures = ",".join(["0"] * prime)
+            for bent in (f"{prime} 00: 0 {figures}", f"{prime} 0: 00 {figures}", f"{prime} 0: 0 0{figures}",
+                         f"0{prime} 0: 0 {figures}", f"{prime} 0:" + ";".join([f" 0 {figures}"] * 241)):
+                self.unchanged(desk, ("turner x " + bent, "error InvalidText"))
             self.check(desk, ("turner c " + counter(prime).text, "ok"), ("do c " + str(prime - 1) * 3, "000"))
         self.check(Desk(Book(2)), ("turner x " + B, "ok"), ("do x 00", "11"))
 
